@@ -1,0 +1,1 @@
+"""lightmark: a reader, keeper and setter of light marked text."""
