@@ -26,6 +26,12 @@ METHODS = """
     setdefault split splitlines startswith strip update upper values zfill bit_length
 """.split()
 
+WALKED = "zip enumerate reversed range items keys values".split()
+
+WALKERS = "list tuple dict sorted sum any all enumerate zip min max".split()
+
+VALUE_NAMES = "count index title find get join lower upper split strip copy add".split()
+
 DUNDERS = "__init__ __eq__ __repr__ __str__ __len__".split()
 
 UNUSED_NAMES = """
@@ -146,7 +152,7 @@ def name_faults(node, methods):
     for name in bound:
         if not re.fullmatch(r"[A-Za-z][A-Za-z0-9_]*", name) and name not in DUNDERS:
             yield f"L12 {name} is no plain name"
-        if hasattr(builtins, name) or name in UNUSED_NAMES:
+        if (hasattr(builtins, name) and name not in DUNDERS) or name in UNUSED_NAMES:
             yield f"L15 or L17 {name} is not to be bound"
     if isinstance(node, ast.Attribute) and (node.attr in UNUSED_NAMES or (
             node.attr.startswith("_") and node.attr != "__init__")):
@@ -159,6 +165,54 @@ def name_faults(node, methods):
 def methods_of(tree):
     classes = [node for node in ast.walk(tree) if isinstance(node, ast.ClassDef)]
     return [part.name for node in classes for part in node.body if isinstance(part, ast.FunctionDef)]
+
+
+def values_of(tree):
+    """The names of the values that objects are given."""
+    stored = [node for node in ast.walk(tree) if isinstance(node, ast.Attribute) and isinstance(node.ctx, ast.Store)]
+    return [node.attr for node in stored]
+
+
+def handed_on_faults(tree, methods):
+    called = [node.func for node in ast.walk(tree) if isinstance(node, ast.Call)]
+    for node in ast.walk(tree):
+        if isinstance(node, ast.Attribute) and node.attr in methods + METHODS and node not in called:
+            yield f"L25 row {node.lineno}: {node.attr} is not called where it stands"
+
+
+def kept_walk_faults(tree):
+    walked = []
+    for node in ast.walk(tree):
+        if isinstance(node, (ast.For, ast.comprehension)):
+            walked.append(node.iter)
+        if isinstance(node, ast.Call) and isinstance(node.func, ast.Name) and node.func.id in WALKERS:
+            walked += node.args
+    for node in ast.walk(tree):
+        if isinstance(node, ast.Call) and node not in walked:
+            name = node.func.id if isinstance(node.func, ast.Name) else getattr(node.func, "attr", "")
+            if name in WALKED:
+                yield f"L23 row {node.lineno}: {name} is not walked on the spot"
+
+
+def value_name_faults(tree):
+    for name in values_of(tree):
+        if any(hasattr(kind, name) for kind in (str, int, list, dict, set, bytes, tuple)) and name not in VALUE_NAMES:
+            yield f"L26 a value is called {name}"
+
+
+def clashes(sources):
+    """Names that are a method in one class and a value in another, over all files."""
+    trees = [ast.parse(source) for source in sources]
+    methods = {name for tree in trees for name in methods_of(tree)}
+    return sorted(methods & {name for tree in trees for name in values_of(tree)})
+
+
+def twice_in_a_class(tree):
+    for node in ast.walk(tree):
+        if isinstance(node, ast.ClassDef):
+            names = [part.name for part in node.body if isinstance(part, ast.FunctionDef)]
+            if len(names) != len(set(names)):
+                yield f"L18 a method stands twice in {node.name}"
 
 
 def shadow_faults(tree):
@@ -176,6 +230,8 @@ def faults(source, methods=()):
     """What is outside the rules in this file; methods are those of the package's own classes."""
     tree = ast.parse(source)
     found = list(row_faults(source)) + list(top_faults(tree)) + list(shadow_faults(tree))
+    found += list(handed_on_faults(tree, list(methods))) + list(kept_walk_faults(tree))
+    found += list(value_name_faults(tree)) + list(twice_in_a_class(tree))
     for node in ast.walk(tree):
         for look in (import_faults, def_faults, statement_faults, value_faults):
             found += [f"row {getattr(node, 'lineno', 0)}: {fault}" for fault in look(node)]

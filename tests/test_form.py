@@ -5,7 +5,7 @@ import pathlib
 import re
 import unittest
 
-from tests.form import PACKAGE, faults, methods_of
+from tests.form import PACKAGE, clashes, faults, methods_of
 
 FOLDER = pathlib.Path(__file__).resolve().parent.parent / PACKAGE
 
@@ -25,6 +25,8 @@ WRONG = [
     "def f(_a):\n    return 1", "def _f():\n    return 1", "def f(a):\n    return a._b", "def f(a):\n    return a.title()",
     "def f(a):\n    return a.format(1)", "def f(a):\n    a.sort()", "def f(a):\n    for b in a:\n        pass\n    else:\n        pass",
     "from lightmark.signs import tidy\ndef f(tidy):\n    return tidy", "class C:\n    pass\ndef f(C):\n    return C",
+    "def f(a):\n    return range(a)", "def f(a):\n    b = zip(a, a)\n    return b", "def f(a):\n    return a.lower",
+    "class C:\n    def f(self):\n        self.items = 1", "class C:\n    def f(self):\n        pass\n    def f(self):\n        pass",
     "X = 1  # a type", "X = 'an enum'", "X = 'overloaded'", "X = 1  # " + "a" * 120, "X = 1\t", "X = 1  # \u00e4",
     "def f():\n" + "    pass\n" * 40, "X = 1" + "\n" * 400,
 ]
@@ -48,6 +50,11 @@ class Form(unittest.TestCase):
         for name, source in sources.items():
             with self.subTest(file=name):
                 self.assertEqual(faults(source, methods), [])
+
+    def test_no_name_is_a_method_here_and_a_value_there(self):
+        self.assertEqual(clashes(self.sources().values()), [])
+        method, value = "class A:\n    def b(self):\n        pass", "class C:\n    def d(self):\n        self.b = 1"
+        self.assertEqual(clashes([method, value]), ["b"])
 
     def test_no_two_files_draw_from_one_another(self):
         drawn = {}
