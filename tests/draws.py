@@ -64,3 +64,64 @@ def drawn_parts(dice, most=4):
         told = trimmed(drawn_run(dice, most, True))
         if told:
             return told
+
+
+LINES = ["", " ", "a", "~~~ a", " ~~~", "~~", "~~~~", "> a", "= a", "| a |", "- a", "[a]: b", "  two  blanks  ", "\\", "[^a]: b"]
+TARGETS = ["a", "http://b.c/d?e", "]:", "[a]:", "*b*", "\\", "|", "~~~"]
+
+
+def drawn_entries(dice, deepest):
+    """Entries as told, of which so many at most lie within each other."""
+    told = []
+    for _ in range(dice.choice([1, 1, 2, 3])):
+        inner = drawn_entries(dice, deepest - 1) if deepest > 1 and dice.random() < 0.5 else []
+        told.append((dice.choice("-+"), drawn_parts(dice, 2), inner))
+    return told
+
+
+def drawn_cells(dice, columns):
+    sure = [[], [], [("plain", "---")], [("plain", "--:")], [("plain", "-")], [("plain", "|")], [("code", "a|b\\")]]
+    return [dice.choice(sure) if dice.random() < 0.5 else drawn_parts(dice, 2) for _ in range(columns)]
+
+
+def drawn_table(dice):
+    columns = dice.choice([1, 1, 2, 3])
+    lines = [drawn_cells(dice, columns) for _ in range(dice.randint(0, 3))]
+    if lines and dice.random() < 0.5:
+        return ("table", [], [], lines)
+    return ("table", drawn_cells(dice, columns), [dice.choice(["left", "right"]) for _ in range(columns)], lines)
+
+
+def drawn_para(dice):
+    """A paragraph as told, often one whose row needs a backslash."""
+    rows = ["> a", ">", "~~~", "= a", "=== b", "| a |", "||", "- a", "+ b", "\\", "---", "|", "-"]
+    if dice.random() < 0.3:
+        return ("para", [("plain", dice.choice(rows))])
+    if dice.random() < 0.2:
+        return ("para", [("note", dice.choice(NAMES)), ("plain", ": " + dice.choice(["a", "b c"]))])
+    return ("para", drawn_parts(dice))
+
+
+def drawn_block(dice, quotes=4):
+    """A block as told, in which so many quotes at most lie within each other."""
+    sort = dice.choice(["heading", "para", "para", "list", "table", "literal", "name", "note"] + ["quote"] * (quotes > 0))
+    if sort == "heading":
+        return ("heading", dice.randint(1, 3), drawn_parts(dice))
+    if sort == "para":
+        return drawn_para(dice)
+    if sort == "list":
+        return ("list", drawn_entries(dice, 6))
+    if sort == "table":
+        return drawn_table(dice)
+    if sort == "literal":
+        return ("literal", [dice.choice(LINES) for _ in range(dice.randint(0, 3))])
+    if sort == "name":
+        return ("name", dice.choice(NAMES), dice.choice(TARGETS))
+    if sort == "note":
+        return ("note", dice.choice(NAMES), drawn_parts(dice))
+    return ("quote", drawn_tree(dice, 3, quotes - 1))
+
+
+def drawn_tree(dice, most=4, quotes=4):
+    """Blocks as told, up to so many."""
+    return [drawn_block(dice, quotes) for _ in range(dice.randint(0, most))]
