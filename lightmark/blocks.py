@@ -3,6 +3,8 @@
 from lightmark.parts import raw_of, told_parts
 from lightmark.sorts import FENCE, sort_of
 
+MOST_QUOTES = 4
+
 
 class Block:
     # What holds for a block that has neither parts nor blocks within it.

@@ -136,13 +136,13 @@ def merged(pieces):
 
 
 def need_parts(told):
-    parts = need_list(told, True)
+    parts = need_run(told, True)
     if parts != [] and (begins_with_blank(parts[0]) or ends_with_blank(parts[-1])):
         raise BadTree("a blank stands at the begin or at the end")
     return parts
 
 
-def need_list(told, strong_too):
+def need_run(told, strong_too):
     # Neither here nor below is the refused thing shown: it could fail at that.
     if not isinstance(told, list):
         raise BadTree("parts are told as a list")
@@ -173,7 +173,7 @@ def need_part(thing, strong_too):
 
 
 def need_inner(told):
-    parts = need_list(told, False)
+    parts = need_run(told, False)
     if parts == []:
         raise BadTree("a strong part has no parts")
     return parts

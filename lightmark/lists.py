@@ -3,6 +3,8 @@
 from lightmark.blocks import Block
 from lightmark.parts import raw_of, told_parts
 
+MOST_ENTRIES = 6
+
 
 class Entry:
     def __init__(self, sign, parts, entries):

@@ -125,3 +125,24 @@ def drawn_block(dice, quotes=4):
 def drawn_tree(dice, most=4, quotes=4):
     """Blocks as told, up to so many."""
     return [drawn_block(dice, quotes) for _ in range(dice.randint(0, most))]
+
+
+ROWS = [
+    "", "", " ", "a", "b c", " a", "  b  c ", "    d", "- a", "+ b", "  - a", " + b", "   - c", "      - d", "        + e", "- ",
+    "= a", "== b", "=== c", "==== d", "> a", ">", "> ", "> - a", ">   - b", "> > a", ">>b", "> > > > a", ">>>>> a", "> ~~~", ">~~~ ",
+    ">  a", "| a |", "|a|b|", "| --- |", "|---|--:|", "|-:|", "| - a |", "||", "| \\| |", "|a\\|", "~~~", "~~~ ", " ~~~", "~~~a",
+    "[a]: b", "[B]: c ", "[a]: b c", "[^a]: b", "[^B]:  c  *d*", "[^a]:", "[^a] b", "[^b]: [x](y)[^c]", " [a]: b", "*a", "b*", "`c",
+    "[l](m)[^n]", "\\- a", "\\", "a\\", "> | a |", "> | - |", "> [^q]: r", ">  s", "> [q]: r", "*", "**", "---", "> = h",
+]
+
+
+def drawn_rows(dice, most=12):
+    """Rows of every sort and what is nearly of one."""
+    rows = []
+    for _ in range(dice.randint(0, most)):
+        rows.append(dice.choice(ROWS) if dice.random() < 0.9 else drawn_text(dice, " >~=|\\[]^:-+a*`", 6))
+    return rows
+
+
+def drawn_marked_text(dice, most=12):
+    return "\n".join(drawn_rows(dice, most))
