@@ -491,6 +491,7 @@ class NeedParts(unittest.TestCase):
             yield from [("note", name), ("link", "a", name)]
         yield from [("strong",), ("strong", []), ("strong", [plain("a")], []), ("strong", "a"), ("strong", (plain("a"),))]
         yield from [("strong", [("strong", [plain("a")])]), ("strong", plain("a")), ["strong", [plain("a")]]]
+        yield from [("bold", [plain("a")]), ("", [plain("a")]), ("Strong", [plain("a")]), ("list", [plain("a")])]
         yield from [(), [], ("",), ("", ""), ("a", "b"), "plain", "ab", ("plain", "a") * 2, {"plain": "a"}]
         yield from [Plain("a"), Code("a"), ("strong", [Plain("a")]), (plain("a"),), [plain("a")]]
 

@@ -43,7 +43,7 @@ def right_blocks():
     yield ("table", [A, []], ["right", "left"], [[[], B], [A, A]])
     yield ("table", [[]], ["left"], [[[]], [[]]])
     yield ("table", [], [], [[A, B, []], [[], [], []]])
-    yield from [("literal", []), ("literal", [""]), ("literal", ["~~~ a", " ~~~", "~~", "~~~~", "> ", "  "])]
+    yield from [("literal", []), ("literal", [""]), ("literal", ["~~~ a", "~~~x", " ~~~", "~~", "~~~~", "> ", "  "])]
     yield from [("quote", []), ("quote", [("para", A), ("quote", []), ("para", B)])]
     yield from [quotes(count, ("para", A)) for count in range(1, 5)]
     yield from [quotes(count, ("quote", [])) for count in range(1, 4)]
